@@ -4,7 +4,7 @@
 def nested(depth):
     value = 7
     for level in range(depth):
-        value = [(value,), [value], {"a": value}][level % 3] if level % 2 else (value,)
+        value = [(value,), [value], {"a": value}][level % 3]
     return value
 
 
