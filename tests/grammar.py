@@ -1,12 +1,13 @@
 """Grammars as derivatives: which character of a text is the first such that no right text begins so.
 
 A grammar is NOTHING (no text), () (the empty text only), ("char", characters), ("then", one, other),
-("or", one, other) or ("many", one). The functions keep NOTHING out of all others, so that a grammar
-other than NOTHING has a text.
+("or", one, other), ("many", one) or ("rule", name) for a grammar in RULES, which is never empty and does not
+begin with itself. The functions keep NOTHING out of all others, so that a grammar other than NOTHING has a text.
 """
 
 NOTHING = None
 DONE = ()
+RULES = {}
 
 
 def char(characters):
@@ -58,6 +59,8 @@ def behind(grammar, letter):
     if grammar is NOTHING or grammar == DONE:
         return NOTHING
     kind = grammar[0]
+    if kind == "rule":
+        return behind(RULES[grammar[1]], letter)
     if kind == "char":
         return DONE if letter in grammar[1] else NOTHING
     if kind == "or":
@@ -87,6 +90,24 @@ SIGN = either(*[word(sign) for sign in (">=", ">", "<=", "<", "=", "^", "~")])
 PART = either(char("*"), then(SIGN, VERSION))
 ROW = then(PART, many(then(char(" "), PART)))
 RANGE = then(ROW, many(then(word(" || "), ROW)))
+
+
+def some_letters(most):
+    """One letter to so many."""
+    whole = DONE
+    for _ in range(most):
+        whole = then(char("abcdefghijklmnopqrstuvwxyz"), either(DONE, whole))
+    return whole
+
+
+WORD = some_letters(10)
+CONDITION = ("rule", "condition")
+JOINT = either(word(" and "), word(" or "))
+RULES["condition"] = either(word("always"), then(WORD, char("="), WORD), then(word("not "), CONDITION),
+                            then(char("("), CONDITION, JOINT, CONDITION, char(")")))
+# Without the order of the options, which is tested by itself.
+OPTIONS = then(char("["), WORD, many(then(char(","), WORD)), char("]"))
+NEED = then(WORD, either(DONE, OPTIONS), char(" "), RANGE, either(DONE, then(word(" if "), CONDITION)))
 
 
 def spoiled(text, letters):

@@ -27,6 +27,11 @@ BARRED_WORDS = set("""
     NamedTuple TypedDict TYPE_CHECKING abstractmethod register mro elements open input law version_info with_traceback
     add_note
 """.split())
+BUILTIN_METHODS = set("""
+    append clear copy count endswith extend find get index insert isalnum isalpha isdigit islower isspace isupper items
+    join keys ljust lower lstrip partition pop remove replace reverse rfind rjust rpartition rsplit rstrip setdefault
+    split splitlines startswith strip update upper values zfill bit_length add discard
+""".split())
 BARRED_NODES = (ast.Global, ast.AsyncFunctionDef, ast.AsyncFor, ast.AsyncWith, ast.Await, ast.Div, ast.TryStar)
 
 
@@ -117,6 +122,34 @@ class LanguageTest(unittest.TestCase):
                 docstring = at == 0 and isinstance(node, ast.Expr) and isinstance(node.value, ast.Constant)
                 kinds = (ast.ImportFrom, ast.FunctionDef, ast.ClassDef, ast.Assign)
                 self.assertTrue(docstring or isinstance(node, kinds), path)
+                if isinstance(node, ast.Assign):
+                    self.assertEqual([type(target) for target in node.targets], [ast.Name], (path, node.lineno))
+                    ast.literal_eval(node.value)
+
+    def test_methods(self):
+        trees = [(path, ast.parse(path.read_text())) for path in files()]
+        classes = [node for _, tree in trees for node in ast.walk(tree) if isinstance(node, ast.ClassDef)]
+        methods = {item.name for node in classes for item in node.body if isinstance(item, ast.FunctionDef)}
+        attributes = {node.attr for _, tree in trees for node in ast.walk(tree)
+                      if isinstance(node, ast.Attribute) and isinstance(node.ctx, ast.Store)}
+        self.assertEqual(methods & attributes, set())
+        for path, tree in trees:
+            for node in ast.walk(tree):
+                if isinstance(node, ast.Call) and isinstance(node.func, ast.Attribute):
+                    self.assertIn(node.func.attr, BUILTIN_METHODS | methods, path)
+                elif isinstance(node, ast.Attribute):
+                    self.assertIn(node.attr, BUILTIN_METHODS | methods | attributes, path)
+                if isinstance(node, (ast.FunctionDef, ast.ClassDef)):
+                    self.assertEqual(node.decorator_list, [], path)
+
+    def test_no_imports_in_a_circle(self):
+        imported = {path.stem: {node.module.split(".")[1] for node in ast.walk(ast.parse(path.read_text()))
+                                if isinstance(node, ast.ImportFrom) and node.module.startswith("versionjudge.")}
+                    for path in files()}
+        while imported:
+            free = [name for name, others in imported.items() if not others & set(imported)]
+            self.assertNotEqual(free, [], imported)
+            imported = {name: others for name, others in imported.items() if name not in free}
 
     def test_words_that_stand_nowhere(self):
         for path in files():

@@ -1,7 +1,7 @@
 """Ranges of versions, what two of them make, certificates about them, and their texts (part 2)."""
 
 from versionjudge.errors import BadRange
-from versionjudge.reading import Reader
+from versionjudge.reading import read_whole
 from versionjudge.values import is_ascending
 from versionjudge.versions import FIRST, check_version, is_version, next_version, version_from, version_text
 
@@ -142,17 +142,14 @@ def pair_text(low, high):
 
 
 def read_range(text):
-    reader = Reader(text)
-    span = range_from(reader)
-    reader.finish()
-    return span
+    return read_whole(text, range_from)
 
 
-def range_from(reader):
-    """Read the rows of a range."""
+def range_from(reader, behind=None):
+    """Read the rows of a range, which end where the text behind comes, if one is given; it begins with a blank."""
     rows = ()
     row = part_from(reader)
-    while reader.take(" "):
+    while not (behind is not None and reader.comes(behind)) and reader.take(" "):
         # A part does not begin with a stroke, so the first one decides.
         if reader.take("|"):
             reader.expect("| ")

@@ -1,7 +1,7 @@
 """Versions, their order and their texts (part 1)."""
 
 from versionjudge.errors import BadText, BadVersion
-from versionjudge.reading import Reader
+from versionjudge.reading import read_whole
 from versionjudge.values import is_integer
 
 # The sorts of early versions stand at their numbers.
@@ -46,10 +46,7 @@ def version_text(version):
 
 
 def read_version(text):
-    reader = Reader(text)
-    version = version_from(reader)
-    reader.finish()
-    return version
+    return read_whole(text, version_from)
 
 
 def version_from(reader):
