@@ -25,6 +25,53 @@ RANGES = """
 raises BadText(at=9)
 """
 
+TARGETS = """
+>>> from versionjudge.targets import alike_holds, condition_holds, condition_text, does_hold, is_condition, is_target, judge_alike, judge_condition, read_condition, read_target, target_text
+>>> LINUX, NEITHER = ("is", "os", "linux"), ("not", ("either", ("is", "os", "linux"), ("is", "os", "mac")))
+>>> [is_target((("arch", "arm"), ("os", "linux"))), is_target((("os", "linux"), ("os", "mac"))), does_hold(NEITHER, ()), does_hold(LINUX, (("os", "linux"),)), judge_alike(("not", ("not", LINUX)), LINUX), judge_condition(LINUX, NEITHER)[0]]
+[True, False, True, True, ('alike',), 'target']
+>>> [condition_text(NEITHER), read_condition('(os=mac and not always)'), target_text((("arch", "arm"), ("os", "linux"))), read_target(''), alike_holds(LINUX, NEITHER, ("target", ())), condition_holds(LINUX, NEITHER, ("target", ())), is_condition(("is", "OS", "linux"))]
+['not (os=linux or os=mac)', ('both', ('is', 'os', 'mac'), ('not', ('always',))), 'arch=arm,os=linux', (), True, False, False]
+>>> read_condition('(os=mac or )')
+raises BadText(at=11)
+"""
+
+STORES = r"""
+>>> from versionjudge.stores import is_world, lacking, names_of, need_text, read_need, read_world, shown, stand_ins, world_text
+>>> ONE, TWO = (1, 0, 0, 3, 0), (2, 0, 0, 3, 0)
+>>> CORE, BARE = ("core", ((ONE, None),), (), ("always",)), (ONE, (), (), (), (), False)
+>>> WORLD = (("main", (("app", ((TWO, (CORE,), (), (), (), False),)), ("core", (BARE,)))), ("side", (("core", ((TWO, (), (), (), (("base", ONE),), True),)),)))
+>>> [is_world(WORLD), is_world(()), names_of(WORLD), shown(WORLD, "core", "first"), [label for label, release in shown(WORLD, "core", "all")], stand_ins(WORLD, "base", "all"), stand_ins(WORLD, "base", "first"), lacking(WORLD)]
+[True, False, ('app', 'core'), (('main', ((1, 0, 0, 3, 0), (), (), (), (), False)),), ['main', 'side'], (('core', 'side', (2, 0, 0, 3, 0), (1, 0, 0, 3, 0)),), (), ()]
+>>> [need_text(("core", ((ONE, TWO),), ("fast", "safe"), ("is", "os", "mac"))), read_need('core ^1.0.0'), world_text(WORLD[1:]), read_world(world_text(WORLD)) == WORLD]
+['core[fast,safe] >=1.0.0 <2.0.0 if os=mac', ('core', (((1, 0, 0, 3, 0), (2, 0, 0, 0, 0)),), (), ('always',)), 'store side\nshelf core\nrelease 2.0.0\nwithdrawn\nstand base 1.0.0', True]
+>>> read_world('store main\nshelf core')
+raises BadText(at=3)
+"""
+
+ASKS = """
+>>> from versionjudge.asks import is_asks, is_right, reached, states, told, variables
+>>> ONE, TWO, EVERY, ALWAYS = (1, 0, 0, 3, 0), (2, 0, 0, 3, 0), (((0, 0, 0, 0, 0), None),), ("always",)
+>>> NEW, OLD = (TWO, (("core", ((TWO, None),), (), ALWAYS),), (), (), (), False), (ONE, (("core", ((ONE, TWO),), (), ALWAYS),), (), (), (), False)
+>>> WORLD = (("main", (("app", (OLD, NEW)), ("core", ((ONE, (), (), (), (), False),)))),)
+>>> ASKS = ((("app", EVERY, (), ALWAYS),), (), (), ("newest", "all", False))
+>>> [is_asks(ASKS), reached(WORLD, ASKS), variables(WORLD, ASKS), states(WORLD, ASKS, 0), is_right(WORLD, ASKS, (2, 1)), is_right(WORLD, ASKS, (1, 1))]
+[True, ('app', 'core'), (('app', ''), ('core', '')), (('none',), ('own', 'main', (2, 0, 0, 3, 0)), ('own', 'main', (1, 0, 0, 3, 0))), True, False]
+>>> KEPT = (ASKS[0], (), (("app", ("main", ONE)),), ("newest", "all", False))
+>>> [states(WORLD, KEPT, 0)[0], told(WORLD, ASKS, (2, 1))]
+[('own', 'main', (1, 0, 0, 3, 0)), ((('app', ('own', 'main', (1, 0, 0, 3, 0))), ('core', ('own', 'main', (1, 0, 0, 3, 0)))), ())]
+"""
+
+PROBLEMS = """
+>>> from versionjudge.problems import are_lines, bar_holds, bars_of, do_cover, does_meet, is_bar, is_problem, is_right_choice, join, judge_bar
+>>> FEW = ((3, 2), (((0, (0,)),), ((0, (1,)),), ((0, (2,)), (1, (0,)))))
+>>> LINES = (("given", 0), ("given", 1), ("join", 0, 0, 1), ("given", 2))
+>>> [is_problem(FEW), is_bar((3, 2), ((1, (0, 1)),)), does_meet(FEW, (2, 0), ((0, (2,)), (1, (0,)))), is_right_choice(FEW, (2, 0)), is_right_choice(FEW, (2, 1)), join(FEW, 0, ((0, (0,)), (1, (0,))), ((0, (1,)), (1, (1,))))]
+[True, False, True, False, True, None]
+>>> [are_lines(FEW, LINES), bars_of(FEW, LINES), do_cover(FEW, LINES[:3], ((0, (1,)),)), judge_bar(FEW, ()), bar_holds(FEW, ((0, (1,)),), ("lines", (("given", 1),))), join(((2,), ()), 0, ((0, (0,)),), ((0, (1,)),))]
+[True, (((0, (0,)),), ((0, (1,)),), ((0, (0, 1)),), ((0, (2,)), (1, (0,)))), True, ('choice', (2, 1)), True, ()]
+"""
+
 
 def steps(example):
     """The code of each step of an example, and the row that tells its result, if there is one."""
@@ -60,6 +107,18 @@ class ExamplesTest(unittest.TestCase):
 
     def test_ranges(self):
         self.check(RANGES, 3)
+
+    def test_targets(self):
+        self.check(TARGETS, 3)
+
+    def test_stores(self):
+        self.check(STORES, 3)
+
+    def test_asks(self):
+        self.check(ASKS, 2)
+
+    def test_problems(self):
+        self.check(PROBLEMS, 2)
 
 
 if __name__ == "__main__":
