@@ -112,12 +112,7 @@ def is_right_name(scene, held, name):
 
 def is_right_option(scene, held, name, option):
     """Whether an option is off, or its name has a release with it, and what this needs is there."""
-    state = held[(name, "")]
     if held[(name, option)] != ON:
         return True
-    if state[0] != "own":
-        return False
-    for other, needs in scene.release_at(name, state)[3]:
-        if other == option:
-            return all([is_met(held, need) for need in scene.applying(needs)])
-    return False
+    needs = scene.extra_at(name, held[(name, "")], option)
+    return needs is not None and all([is_met(held, need) for need in scene.applying(needs)])

@@ -98,6 +98,12 @@ def do_bars_cover(bars, bar):
     return bars != () and does_bar_cover(bars[-1], bar)
 
 
+def are_covering(problem, thing, bar):
+    """Whether any value is lines that cover a bar."""
+    bars = bars_along(problem, thing)
+    return bars is not None and do_bars_cover(bars, bar)
+
+
 def judge_bar(problem, bar):
     check_problem(problem)
     check_bar(problem, bar)
@@ -124,7 +130,4 @@ def bar_holds(problem, bar, thing):
     kind, told = thing
     if kind == "choice":
         return is_state_tuple(problem[0], told) and is_right_for(problem, told) and is_met_by(bar, told)
-    if kind != "lines":
-        return False
-    bars = bars_along(problem, told)
-    return bars is not None and do_bars_cover(bars, bar)
+    return kind == "lines" and are_covering(problem, told, bar)

@@ -7,6 +7,9 @@ from versionjudge.versions import is_early
 NONE = ("none",)
 OFF = ("off",)
 ON = ("on",)
+# The state numbers of these two.
+OFF_AT = 0
+ON_AT = 1
 
 
 class Scene:
@@ -23,6 +26,7 @@ class Scene:
         self.names = self.reached_names()
         self.variables = (*[(name, "") for name in self.names], *self.asked_options())
         self.states = tuple([self.states_of(name, option) for name, option in self.variables])
+        self.places = {variable: i for i, variable in enumerate(self.variables)}
 
     def seen_among(self, name, releases):
         """The releases of a name, given with their labels, that are seen."""
@@ -34,9 +38,13 @@ class Scene:
             return True
         return not release[5] and (self.manner[2] or not is_early(release[0]))
 
+    def applies(self, need):
+        """Whether a need, or wish, applies."""
+        return holds_at(need[3], self.target)
+
     def applying(self, needs):
         """Those of the needs, or wishes, that apply."""
-        return [need for need in needs if holds_at(need[3], self.target)]
+        return [need for need in needs if self.applies(need)]
 
     def reached_names(self):
         wished = {need[0]: True for need in self.applying(self.wishes)}
@@ -99,3 +107,11 @@ class Scene:
     def release_at(self, name, state):
         """The release of a name whose state is "own"."""
         return [release for label, release in self.seen[name] if (label, release[0]) == state[1:]][0]
+
+    def extra_at(self, name, state, option):
+        """The needs of an option of a package in a state, None if the state is not "own" with such an option."""
+        if state[0] == "own":
+            for other, needs in self.release_at(name, state)[3]:
+                if other == option:
+                    return needs
+        return None
