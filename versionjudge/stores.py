@@ -124,14 +124,18 @@ def need_text(need):
     if not is_need(need):
         raise BadNeed(need)
     name, span, options, condition = need
-    text = name
-    if options != ():
-        listed = ",".join(options)
-        text = f"{text}[{listed}]"
-    text = f"{text} {range_text(span)}"
+    text = f"{name}{options_text(options)} {range_text(span)}"
     if condition != ALWAYS:
         text = f"{text} if {condition_text(condition)}"
     return text
+
+
+def options_text(options):
+    """The options in brackets, nothing if there are none."""
+    if options == ():
+        return ""
+    listed = ",".join(options)
+    return f"[{listed}]"
 
 
 def read_need(text):
@@ -141,16 +145,21 @@ def read_need(text):
 def need_from(reader):
     """Read a need, which ends its line."""
     name = reader.word()
-    options = ()
-    if reader.take("["):
-        options = words_from(reader)
-        reader.expect("]")
+    options = options_from(reader) if reader.comes("[") else ()
     reader.expect(" ")
     span = range_from(reader, " i")
     if not reader.take(" i"):
         return (name, span, options, ALWAYS)
     reader.expect("f ")
     return (name, span, options, condition_from(reader))
+
+
+def options_from(reader):
+    """Read options in brackets."""
+    reader.expect("[")
+    options = words_from(reader)
+    reader.expect("]")
+    return options
 
 
 def world_text(world):
