@@ -1,5 +1,16 @@
 """Values of all kinds for the tests, and values that differ from a right one in one place."""
 
+from versionjudge.desks import Desk
+
+# Two desks, of which the second one has something installed, and deeds to undo and to redo.
+DESK = Desk((("main", (("core", (((1, 0, 0, 3, 0), (), (), (), (), False),)),)),), ((), (), (), ("newest", "all",
+                                                                                                 False)))
+BUSY = DESK.copied()
+BUSY.do(("install",))
+BUSY.do(("manner", ("oldest", "all", True)))
+BUSY.do(("target", (("a", "b"),)))
+BUSY.undo()
+
 
 def nested(depth):
     value = 7
@@ -15,9 +26,10 @@ ANY_VALUES = [
     (0, 0, 0, 3), (0, 0, 0, 3, 0, 0), [0, 0, 0, 3, 0], "00030", {0: 0, 1: 0, 2: 0, 3: 3, 4: 0}, {"a": [1, (2,)]},
     (1, 2, 3, "3", 0), (1, 2, 3, None, 0), ((1,), 2, 3, 3, 0), (1, 2, 3, 3, False), ({}, [], (), "", None),
     tuple(range(3000)), list(range(3000)), nested(13), (nested(13), nested(13)), [nested(13)] * 200,
+    DESK, BUSY, (DESK,), [BUSY], {"a": DESK}, ("version", DESK), (DESK, DESK), (0, 0, 0, 3, DESK),
 ]
 
-PARTS = [None, True, False, 0, 1, 2, -1, 10 ** 39, "", "a", "0", (), [], {}, (0,), [0]]
+PARTS = [None, True, False, 0, 1, 2, -1, 10 ** 39, "", "a", "0", (), [], {}, (0,), [0], DESK]
 
 
 def changed(value):

@@ -3,7 +3,7 @@ import importlib
 import inspect
 import unittest
 
-from tests.samples import ANY_VALUES, exactly
+from tests.samples import ANY_VALUES, DESK, exactly
 from versionjudge.errors import VersionError
 
 ONE, TWO = (1, 0, 0, 3, 0), (2, 0, 0, 3, 0)
@@ -25,6 +25,23 @@ ASKS = ((("app", EVERY, (), ALWAYS),), (), (), ("newest", "all", False))
 FEW = ((3, 2), (((0, (0,)),), ((0, (1,)),), ((0, (2,)), (1, (0,)))))
 LINES = (("given", 0), ("given", 1), ("join", 0, 0, 1), ("given", 2))
 BAR = ((0, (2,)), (1, (0,)))
+FIRST_LINES = ("choice", (2, 1), LINES, (2, 3))
+GIVEN = (FEW[1], (("wish", 0, ""), ("need", 0, 1, 0, ""), ("need", 0, 2, 0, "")))
+HARD = ((("app", HIGH, (), ALWAYS),), *ASKS[1:])
+CLASH = ("clash", (0,), LINES[:3], ((0, 0),))
+ROW = "1: given 1, wish 1 app *: never app is none"
+LOCK = ((), (("app", ("own", "main", ONE), ()), ("core", ("own", "main", ONE), ())))
+LOCK_TEXT = "target\napp main 1.0.0\ncore main 1.0.0"
+PLACES = (("app", ("main", ONE)), ("core", ("main", ONE)))
+# A world in which app and core can be moved together only, with the choices before and after.
+PAIR = (("main", (("app", (OLD, NEW)), ("core", (BARE, (TWO, *BARE[1:]))))),)
+TOGETHER = (PAIR, ASKS, (2, 2), (1, 1))
+PLAN = ("plan", (("app", "core"),), ((("app", "core", 1), ("core", "app", 2)),))
+TARGETS = ((),)
+DESK_TEXT = "store main\nshelf core\nrelease 1.0.0\nfor\nmanner newest all whole"
+
+# Parameters of several functions.
+CHANGE, SPREAD = ["world", "asks", "one", "other"], ["world", "asks", "targets"]
 
 # For each function of the interface: its parameters, and arguments with what they give.
 INTERFACE = {
@@ -87,6 +104,61 @@ INTERFACE = {
         "judge_bar": (["problem", "bar"], (FEW, ()), ("choice", (2, 1))),
         "bar_holds": (["problem", "bar", "thing"], (FEW, ((0, (1,)),), ("lines", (("given", 1),))), True),
     },
+    "resolver": {
+        "resolve": (["problem"], (FEW,), FIRST_LINES), "resolve_holds": (["problem", "thing"], (FEW, FIRST_LINES),
+                                                                         True),
+        "first_choice": (["problem"], (FEW,), (2, 1)), "plain_first": (["problem"], (FEW,), (2, 1)),
+        "possible": (["problem"], (FEW,), ((2,), (1,))),
+    },
+    "demands": {
+        "problem_of": (["world", "asks"], (WORLD, ASKS), ((3, 2), GIVEN[0])),
+        "causes": (["world", "asks"], (WORLD, ASKS), GIVEN[1]), "chosen": (["world", "asks"], (WORLD, ASKS), (2, 1)),
+        "answer": (["world", "asks"], (WORLD, ASKS), FIRST_LINES),
+        "answer_holds": (["world", "asks", "thing"], (WORLD, ASKS, FIRST_LINES), True),
+    },
+    "questions": {
+        "judge_state": (["world", "asks", "i", "s"], (WORLD, ASKS, 0, 1), ("lines", (("given", 1),))),
+        "state_holds": (["world", "asks", "i", "s", "thing"], (WORLD, ASKS, 1, 1, ("choice", (2, 1))), True),
+        "judge_clash": (["world", "asks"], (WORLD, HARD), CLASH),
+        "clash_holds": (["world", "asks", "thing"], (WORLD, HARD, CLASH), True),
+        "sure": (["world", "asks"], (WORLD, ASKS), (("app", ("own", "main", ONE)), ("core", ("own", "main", ONE)))),
+        "names_in": (["world", "asks"], (WORLD, ASKS), ("app", "core")),
+        "names_out": (["world", "asks"], (WORLD, ASKS), ()),
+    },
+    "stories": {
+        "variable_text": (["world", "asks", "i"], (WORLD, ASKS, 1), "core"),
+        "state_text": (["world", "asks", "i", "s"], (WORLD, ASKS, 1, 1), "main 1.0.0"),
+        "bar_text": (["world", "asks", "bar"], (WORLD, ASKS, BAR), "app is main 1.0.0, core is none"),
+        "story": (["world", "asks", "lines"], (WORLD, ASKS, LINES[:1]), (ROW,)),
+        "read_story": (["world", "asks", "thing"], (WORLD, ASKS, (ROW,)), LINES[:1]),
+        "tells_none": (["world", "asks", "thing"], (WORLD, ASKS, (ROW,)), False),
+        "shortened": (["problem", "lines", "ends"], (FEW, LINES, (3, None)), ((("given", 2),), (0, None))),
+        "depth_of": (["problem", "lines"], (FEW, LINES), 1),
+    },
+    "locks": {
+        "is_lock": (["thing"], (LOCK,), True), "lock_of": (["world", "asks", "choice"], (WORLD, ASKS, (2, 1)), LOCK),
+        "choice_of": (["world", "asks", "lock"], (WORLD, ASKS, LOCK), (2, 1)),
+        "judge_lock": (["world", "asks", "lock"], (WORLD, ASKS, LOCK), ("kept", (2, 1))),
+        "lock_holds": (["world", "asks", "lock", "thing"], (WORLD, ASKS, ((), ()), ("bar", 0)), True),
+        "with_kept": (["asks", "lock"], (ASKS, LOCK), (*ASKS[:2], PLACES, ASKS[3])),
+        "changes": (["lock", "other"], (LOCK, ((), LOCK[1][1:])), (("app", LOCK[1][0][1:], None),)),
+        "lock_text": (["lock"], (LOCK,), LOCK_TEXT), "read_lock": (["text"], (LOCK_TEXT,), LOCK),
+    },
+    "plans": {
+        "moved": (CHANGE, TOGETHER, ("app", "core")), "binds": (CHANGE, TOGETHER, PLAN[2][0]),
+        "standing": ([*CHANGE, "names"], (*TOGETHER, ("core",)), (2, 1)),
+        "is_plan": ([*CHANGE, "thing"], (*TOGETHER, PLAN[1]), True),
+        "judge_plan": (CHANGE, TOGETHER, PLAN), "plan_holds": ([*CHANGE, "thing"], (*TOGETHER, PLAN), True),
+        "lots": (CHANGE, TOGETHER, PLAN[1]), "ahead": (CHANGE, TOGETHER, ()),
+    },
+    "spreads": {
+        "spread_problem": (SPREAD, (WORLD, ASKS, TARGETS), ((3, 2), GIVEN[0])),
+        "is_right_spread": ([*SPREAD, "thing"], (WORLD, ASKS, TARGETS, ((2, 1),)), True),
+        "spread_answer": (SPREAD, (WORLD, ASKS, TARGETS), FIRST_LINES),
+        "spread_holds": ([*SPREAD, "thing"], (WORLD, ASKS, TARGETS, FIRST_LINES), True),
+        "first_spread": (SPREAD, (WORLD, ASKS, TARGETS), ((2, 1),)),
+    },
+    "desks": {"read_desk": (["text"], (DESK_TEXT,), DESK)},
 }
 
 # The error for each parameter that has one, and others for parameters of some files.
@@ -94,13 +166,15 @@ ERRORS = {
     "version": "BadVersion", "span": "BadRange", "condition": "BadCondition", "target": "BadTarget", "need": "BadNeed",
     "world": "BadWorld", "name": "BadWord", "sight": "BadSight", "asks": "BadAsks", "i": "BadNumber",
     "choice": "BadChoice", "problem": "BadProblem", "sizes": "BadProblem", "bar": "BadBar", "lines": "BadLines",
+    "s": "BadNumber", "ends": "BadNumber", "lock": "BadLock", "names": "BadWord", "targets": "BadTargets",
 }
-OPERANDS = {"ranges": "BadRange", "targets": "BadCondition", "problems": "BadBar"}
+OPERANDS = {"ranges": "BadRange", "targets": "BadCondition", "problems": "BadBar", "locks": "BadLock",
+            "plans": "BadChoice"}
 
 # Which of the values of all kinds are accepted as the thing, beside the other arguments above.
 ACCEPTED = {
     "is_range": [()], "is_target": [()], "is_store": [("version", ())], "is_problem": [((), ())], "is_bar": [()],
-    "are_lines": [()],
+    "are_lines": [()], "is_lock": [((), ())],
 }
 
 
@@ -141,7 +215,8 @@ class ConventionsTest(unittest.TestCase):
                     first = outcome(call, passed)
                     self.assertEqual(exactly(passed), exactly(before), call.__name__)
                     self.assertEqual(outcome(call, passed), first, call.__name__)
-                    if parameter == "thing":
+                    # The thing of read_story must be a story.
+                    if parameter == "thing" and call.__name__ != "read_story":
                         accepted = [exactly(value) for value in ACCEPTED.get(call.__name__, [])]
                         self.assertEqual(first, exactly(exactly(thing) in accepted), (call.__name__, thing))
 
@@ -168,7 +243,8 @@ class ConventionsTest(unittest.TestCase):
     def test_wrong_texts_by_position_and_by_name(self):
         wrong = {"versions": ("read_version", "1.02.3", 3), "ranges": ("read_range", ">=1.0.0 | 2", 9),
                  "targets": ("read_condition", "(os=mac or )", 11),
-                 "stores": ("read_world", "store main\nshelf core", 3)}
+                 "stores": ("read_world", "store main\nshelf core", 3), "locks": ("read_lock", "target\napp", 2),
+                 "desks": ("read_desk", "store main\nfor\nmanner", 3)}
         for file, (name, text, at) in wrong.items():
             call = getattr(importlib.import_module(f"versionjudge.{file}"), name)
             self.assertEqual(outcome(call, (text,)), ("BadText", exactly([("at", at)])))
@@ -177,7 +253,7 @@ class ConventionsTest(unittest.TestCase):
     def test_is_and_holds_return_bools(self):
         for call, _, _, arguments, _ in functions():
             name = call.__name__
-            if name.startswith(("is_", "are_", "does_", "do_")) or name.endswith(("_hold", "_holds")):
+            if name.startswith(("is_", "are_", "does_", "do_", "tells_")) or name.endswith(("_hold", "_holds")):
                 self.assertIsInstance(call(*arguments), bool)
 
 

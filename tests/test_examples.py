@@ -72,6 +72,104 @@ PROBLEMS = """
 [True, (((0, (0,)),), ((0, (1,)),), ((0, (0, 1)),), ((0, (2,)), (1, (0,)))), True, ('choice', (2, 1)), True, ()]
 """
 
+RESOLVER = """
+>>> from versionjudge.resolver import first_choice, plain_first, possible, resolve, resolve_holds
+>>> FEW = ((3, 2), (((0, (0,)),), ((0, (1,)),), ((0, (2,)), (1, (0,)))))
+>>> LINES = (("given", 0), ("given", 1), ("join", 0, 0, 1), ("given", 2))
+>>> [resolve(FEW)[:2], first_choice(FEW), plain_first(FEW), possible(FEW), resolve_holds(FEW, ("choice", (2, 1), LINES, (2, 3))), resolve_holds(FEW, ("choice", (2, 1), LINES, (1, 3)))]
+[('choice', (2, 1)), (2, 1), (2, 1), ((2,), (1,)), True, False]
+>>> [resolve(((2,), (((0, (0,)),), ((0, (1,)),))))[0], resolve_holds(((2,), (((0, (0,)),), ((0, (1,)),))), ("none", (("given", 0), ("given", 1), ("join", 0, 0, 1)))), first_choice(((), ((),))), resolve(((), ()))]
+['none', True, None, ('choice', (), (), ())]
+"""
+
+DEMANDS = """
+>>> from versionjudge.demands import answer, answer_holds, causes, chosen, problem_of
+>>> ONE, TWO, EVERY, ALWAYS = (1, 0, 0, 3, 0), (2, 0, 0, 3, 0), (((0, 0, 0, 0, 0), None),), ("always",)
+>>> NEW, OLD = (TWO, (("core", ((TWO, None),), (), ALWAYS),), (), (), (), False), (ONE, (("core", ((ONE, TWO),), (), ALWAYS),), (), (), (), False)
+>>> WORLD = (("main", (("app", (OLD, NEW)), ("core", ((ONE, (), (), (), (), False),)))),)
+>>> ASKS = ((("app", EVERY, (), ALWAYS),), (), (), ("newest", "all", False))
+>>> [problem_of(WORLD, ASKS), causes(WORLD, ASKS), chosen(WORLD, ASKS), answer(WORLD, ASKS)[:2]]
+[((3, 2), (((0, (0,)),), ((0, (1,)),), ((0, (2,)), (1, (0,))))), (('wish', 0, ''), ('need', 0, 1, 0, ''), ('need', 0, 2, 0, '')), (2, 1), ('choice', (2, 1))]
+>>> answer(WORLD, ((("app", ((TWO, None),), (), ALWAYS),), (), (), ("newest", "all", False)))[0]
+'none'
+"""
+
+QUESTIONS = """
+>>> from versionjudge.questions import clash_holds, judge_clash, judge_state, names_in, names_out, sure
+>>> ONE, TWO, EVERY, ALWAYS = (1, 0, 0, 3, 0), (2, 0, 0, 3, 0), (((0, 0, 0, 0, 0), None),), ("always",)
+>>> NEW, OLD = (TWO, (("core", ((TWO, None),), (), ALWAYS),), (), (), (), False), (ONE, (("core", ((ONE, TWO),), (), ALWAYS),), (), (), (), False)
+>>> WORLD = (("main", (("app", (OLD, NEW)), ("core", ((ONE, (), (), (), (), False),)))),)
+>>> ASKS, HIGH = ((("app", EVERY, (), ALWAYS),), (), (), ("newest", "all", False)), ((("app", ((TWO, None),), (), ALWAYS),), (), (), ("newest", "all", False))
+>>> [judge_state(WORLD, ASKS, 1, 1), judge_state(WORLD, ASKS, 0, 1)[0], judge_clash(WORLD, ASKS), judge_clash(WORLD, HIGH)[:2], names_in(WORLD, ASKS), names_out(WORLD, ASKS), sure(WORLD, ASKS)[0]]
+[('choice', (2, 1)), 'lines', ('right', (2, 1)), ('clash', (0,)), ('app', 'core'), (), ('app', ('own', 'main', (1, 0, 0, 3, 0)))]
+>>> clash_holds(WORLD, HIGH, ("clash", (0,), (("given", 0), ("given", 1), ("join", 0, 0, 1)), ((0, 0),)))
+True
+"""
+
+STORIES = """
+>>> from versionjudge.stories import bar_text, depth_of, read_story, shortened, state_text, story, tells_none
+>>> ONE, TWO, ALL = (1, 0, 0, 3, 0), (2, 0, 0, 3, 0), (((0, 0, 0, 0, 0), None),)
+>>> WORLD = (("main", (("app", ((TWO, (("core", ((ONE, None),), (), ("always",)),), (), (), (), False),)), ("core", ((ONE, (), (), (), (), False),)))),)
+>>> ASKS = ((("app", ALL, (), ("always",)),), (), (), ("newest", "all", False))
+>>> LINES = (("given", 0), ("given", 1), ("join", 0, 0, 1))
+>>> story(WORLD, ASKS, LINES)
+('1: given 1, wish 1 app *: never app is none', '2: given 2, app main 2.0.0 needs core >=1.0.0: never app is main 2.0.0, core is none', '3: from 1 and 2 at app: never core is none')
+>>> [read_story(WORLD, ASKS, story(WORLD, ASKS, LINES)) == LINES, state_text(WORLD, ASKS, 1, 1), bar_text(WORLD, ASKS, ()), shortened(((2, 2), (((0, (0,)),), ((0, (1,)), (1, (0,))))), (("given", 0), ("given", 1), ("given", 1), ("join", 0, 0, 2)), (None, 3)), depth_of(((2,), (((0, (0,)),),)), (("given", 0),)), tells_none(WORLD, ASKS, ())]
+[True, 'main 1.0.0', 'anything', ((('given', 0), ('given', 1), ('join', 0, 0, 1)), (None, 2)), 0, False]
+>>> read_story(WORLD, ASKS, ('1: given 1, wish 1 app *: never app is none', '2: given 7'))
+raises BadStory(at=1)
+"""
+
+LOCKS = r"""
+>>> from versionjudge.locks import changes, choice_of, judge_lock, lock_holds, lock_of, lock_text, read_lock, with_kept
+>>> ONE, TWO, ALL = (1, 0, 0, 3, 0), (2, 0, 0, 3, 0), (((0, 0, 0, 0, 0), None),)
+>>> WORLD = (("main", (("app", ((TWO, (("core", ((ONE, None),), (), ("always",)),), (), (), (), False),)), ("core", ((ONE, (), (), (), (), False),)))),)
+>>> ASKS = ((("app", ALL, (), ("always",)),), (), (), ("newest", "all", False))
+>>> LOCK = ((), (("app", ("own", "main", TWO), ()), ("core", ("own", "main", ONE), ())))
+>>> [lock_of(WORLD, ASKS, (1, 1)) == LOCK, choice_of(WORLD, ASKS, LOCK), judge_lock(WORLD, ASKS, LOCK), judge_lock(WORLD, ASKS, ((), LOCK[1][:1])), lock_holds(WORLD, ASKS, ((), ()), ("bar", 0)), judge_lock(WORLD, ASKS, ((("os", "mac"),), ()))[0] in ("target", "bar")]
+[True, (1, 1), ('kept', (1, 1)), ('bar', 1), True, True]
+>>> [with_kept(ASKS, LOCK)[2], changes(((), ()), ((), LOCK[1][1:])), lock_text(LOCK), read_lock(lock_text(LOCK)) == LOCK]
+[(('app', ('main', (2, 0, 0, 3, 0))), ('core', ('main', (1, 0, 0, 3, 0)))), (('core', None, (('own', 'main', (1, 0, 0, 3, 0)), ())),), 'target\napp main 2.0.0\ncore main 1.0.0', True]
+>>> lock_of(WORLD, ASKS, (0, 0))
+raises NotRight(thing=(0, 0))
+"""
+
+PLANS = """
+>>> from versionjudge.plans import ahead, binds, is_plan, lots, moved, plan_holds, standing
+>>> ONE, TWO, EVERY, ALWAYS = (1, 0, 0, 3, 0), (2, 0, 0, 3, 0), (((0, 0, 0, 0, 0), None),), ("always",)
+>>> NEW, OLD = (TWO, (("core", ((TWO, None),), (), ALWAYS),), (), (), (), False), (ONE, (("core", ((ONE, TWO),), (), ALWAYS),), (), (), (), False)
+>>> BARE = ((ONE, (), (), (), (), False), (TWO, (), (), (), (), False))
+>>> WORLD = (("main", (("app", (OLD, NEW)), ("core", BARE))),)
+>>> ASKS = ((("app", EVERY, (), ALWAYS),), (), (), ("newest", "all", False))
+>>> [moved(WORLD, ASKS, (2, 2), (1, 1)), binds(WORLD, ASKS, (2, 2), (1, 1)), lots(WORLD, ASKS, (2, 2), (1, 1)), is_plan(WORLD, ASKS, (2, 2), (1, 1), (("core",), ("app",))), standing(WORLD, ASKS, (2, 2), (1, 1), ("core",)), ahead(WORLD, ASKS, (2, 2), (1, 1))]
+[('app', 'core'), (('app', 'core', 1), ('core', 'app', 2)), (('app', 'core'),), False, (2, 1), ()]
+>>> plan_holds(WORLD, ASKS, (2, 2), (1, 1), ("plan", (("app", "core"),), ((("app", "core", 1), ("core", "app", 2)),)))
+True
+"""
+
+SPREADS = """
+>>> from versionjudge.spreads import first_spread, is_right_spread, spread_answer, spread_problem
+>>> ONE, EVERY, ALWAYS = (1, 0, 0, 3, 0), (((0, 0, 0, 0, 0), None),), ("always",)
+>>> APP, CORE = (ONE, (("core", EVERY, (), ("is", "os", "linux")),), (), (), (), False), (ONE, (), (), (), (), False)
+>>> WORLD = (("main", (("app", (APP,)), ("core", (CORE,)))),)
+>>> ASKS, BOTH = ((("app", EVERY, (), ALWAYS),), (), (), ("newest", "all", False)), ((("os", "linux"),), (("os", "mac"),))
+>>> [first_spread(WORLD, ASKS, BOTH), spread_problem(WORLD, ASKS, BOTH), is_right_spread(WORLD, ASKS, BOTH, ((1, 1), (0,))), spread_answer(WORLD, ASKS, BOTH)[:2]]
+[((1, 1), (1,)), ((2, 2, 2), (((0, (0,)),), ((0, (1,)), (1, (0,))), ((2, (0,)),))), False, ('choice', (1, 1, 1))]
+"""
+
+DESKS = r"""
+>>> from versionjudge.desks import Desk, read_desk
+>>> ONE, TWO, ALL = (1, 0, 0, 3, 0), (2, 0, 0, 3, 0), (((0, 0, 0, 0, 0), None),)
+>>> WORLD = (("main", (("core", ((ONE, (), (), (), (), False),)),)),)
+>>> desk = Desk(WORLD, ((("core", ALL, (), ("always",)),), (), (), ("newest", "all", False)))
+>>> [desk.do(("install",)), desk.installed(), desk.do(("put", "main", "core", (TWO, (), (), (), (), False))), desk.do(("install",)), desk.installed()[1][0][1], desk.state_of_lock()]
+[None, ((), (('core', ('own', 'main', (1, 0, 0, 3, 0)), ()),)), None, None, ('own', 'main', (1, 0, 0, 3, 0)), ('kept', (0,))]
+>>> [desk.do(("unwish", 0)), desk.do(("wish", ("core", ((TWO, None),), (), ("always",)))), desk.do(("install",)), desk.installed()[1], desk.undo(), desk.text(), read_desk(desk.text()) == desk]
+[None, None, None, (('core', ('own', 'main', (2, 0, 0, 3, 0)), ()),), None, 'store main\nshelf core\nrelease 1.0.0\nrelease 2.0.0\nwish core >=2.0.0\nfor\nmanner newest all whole\ninstalled\ntarget\ncore main 1.0.0', True]
+>>> desk.do(("unwish", 1))
+raises BadDeed(thing=('unwish', 1))
+"""
+
 
 def steps(example):
     """The code of each step of an example, and the row that tells its result, if there is one."""
@@ -119,6 +217,30 @@ class ExamplesTest(unittest.TestCase):
 
     def test_problems(self):
         self.check(PROBLEMS, 2)
+
+    def test_resolver(self):
+        self.check(RESOLVER, 2)
+
+    def test_demands(self):
+        self.check(DEMANDS, 2)
+
+    def test_questions(self):
+        self.check(QUESTIONS, 2)
+
+    def test_stories(self):
+        self.check(STORIES, 3)
+
+    def test_locks(self):
+        self.check(LOCKS, 3)
+
+    def test_plans(self):
+        self.check(PLANS, 2)
+
+    def test_spreads(self):
+        self.check(SPREADS, 1)
+
+    def test_desks(self):
+        self.check(DESKS, 3)
 
 
 if __name__ == "__main__":

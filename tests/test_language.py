@@ -142,6 +142,24 @@ class LanguageTest(unittest.TestCase):
                 if isinstance(node, (ast.FunctionDef, ast.ClassDef)):
                     self.assertEqual(node.decorator_list, [], path)
 
+    def test_beside_an_equality_of_its_own(self):
+        # Desks have an __eq__, so some things are narrower: L7, L19, L25.
+        for path in files():
+            for node in ast.walk(ast.parse(path.read_text())):
+                self.assertNotIsInstance(node, ast.GeneratorExp, path)
+                if isinstance(node, ast.Attribute):
+                    self.assertNotEqual(node.attr, "sort", path)
+                if isinstance(node, ast.ExceptHandler):
+                    self.assertIn(node.type.id, ("BadText", "BadStory"), path)
+
+    def test_stars_in_calls(self):
+        # L7: behind a star only a name, an attribute off a name, or a literal.
+        for path in files():
+            for node in ast.walk(ast.parse(path.read_text())):
+                if isinstance(node, ast.Call):
+                    for part in node.args:
+                        self.assertFalse(isinstance(part, ast.Starred) and not isinstance(part.value, ast.Name), path)
+
     def test_no_imports_in_a_circle(self):
         imported = {path.stem: {node.module.split(".")[1] for node in ast.walk(ast.parse(path.read_text()))
                                 if isinstance(node, ast.ImportFrom) and node.module.startswith("versionjudge.")}
